@@ -1,0 +1,1 @@
+"""Pageturns: answers handed out in pages while the rows change."""

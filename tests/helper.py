@@ -1,0 +1,55 @@
+"""Things of any other sort, for all tests that ask what is refused."""
+
+import reprlib
+
+
+class Agreeing:
+    """Says that it equals whatever it is compared with."""
+
+    def __eq__(self, other):
+        return True
+
+    def __hash__(self):
+        return 0
+
+
+class Failing:
+    """Can't be compared, counted, walked or hashed."""
+
+    def __eq__(self, other):
+        raise RuntimeError("compared")
+
+    def __hash__(self):
+        raise RuntimeError("hashed")
+
+    def __len__(self):
+        raise RuntimeError("counted")
+
+    def __iter__(self):
+        raise RuntimeError("walked")
+
+    def __bool__(self):
+        raise RuntimeError("asked for its truth")
+
+
+def shown(thing):
+    """A short text of a thing, however deep it is."""
+    return reprlib.repr(thing)
+
+
+def deep_list(depth):
+    thing = []
+    for _ in range(depth):
+        thing = [thing]
+    return thing
+
+
+def other_things():
+    """Things that are no whole number, no text, no tuple and not None."""
+    return [
+        True, False, 0.0, 1.0, float("nan"), 1j, b"", b"a", bytearray(b"a"),
+        [], ["a"], [1], [["a", "number"]], [("a", "number")], ["pen", [1]],
+        {}, {"a": "number"}, {"a": 1}, set(), {"a"}, frozenset(), range(2),
+        object(), int, str, len, Ellipsis, NotImplemented, iter(()), ValueError("a"),
+        Agreeing(), Failing(), deep_list(5000),
+    ]
