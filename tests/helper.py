@@ -1,6 +1,9 @@
-"""Things of any other sort, for all tests that ask what is refused."""
+"""For all tests that ask what is refused: how it is asked, and things of any other sort."""
 
 import reprlib
+import unittest
+
+from pageturns.errors import PageError
 
 
 class Agreeing:
@@ -53,3 +56,20 @@ def other_things():
         object(), int, str, len, Ellipsis, NotImplemented, iter(()), ValueError("a"),
         Agreeing(), Failing(), deep_list(5000),
     ]
+
+
+class CheckTest(unittest.TestCase):
+    def hold_good(self, check, *given):
+        with self.subTest(given=shown(given)):
+            self.assertIsNone(check(*given))
+            self.assertIsNone(check(*given))
+
+    def hold_bad(self, error, check, *given):
+        with self.subTest(given=shown(given)):
+            for _ in range(2):
+                try:
+                    check(*given)
+                except PageError as raised:
+                    self.assertIs(type(raised), error)
+                else:
+                    self.fail("not refused")

@@ -1,31 +1,14 @@
 import copy
 import unittest
 
-from helper import Agreeing, Failing, other_things, shown
+from helper import Agreeing, CheckTest, Failing, other_things, shown
 from pageturns.columns import check_columns, check_row, kind_named, value_in
-from pageturns.errors import BadColumns, BadRow, PageError
+from pageturns.errors import BadColumns, BadRow
 
 SIXTY = int("9" * 60)
 GOODS = (("price", "number"), ("maker", "word"), ("stock", "number"))
 EIGHT = tuple((name, "word") for name in "abcdefgh")
 NINE = EIGHT + (("i", "word"),)
-
-
-class CheckTest(unittest.TestCase):
-    def hold_good(self, check, *given):
-        with self.subTest(given=shown(given)):
-            self.assertIsNone(check(*given))
-            self.assertIsNone(check(*given))
-
-    def hold_bad(self, error, check, *given):
-        with self.subTest(given=shown(given)):
-            for _ in range(2):
-                try:
-                    check(*given)
-                except PageError as raised:
-                    self.assertIs(type(raised), error)
-                else:
-                    self.fail("not refused")
 
 
 class ColumnsTest(CheckTest):

@@ -33,6 +33,13 @@ FORBIDDEN_WORDS = re.compile(
     r"|namedtuple|NamedTuple|TypedDict|TYPE_CHECKING|abstractmethod)\b|dataclass|overload|contextmanager"
 )
 PLAIN_NAME = re.compile(r"[A-Za-z][A-Za-z0-9_]*")
+KEYWORDS = {"sorted": {"key", "reverse"}, "min": {"key", "default"}, "max": {"key", "default"},
+            "sum": {"start"}, "enumerate": {"start"}, "zip": {"strict"}}
+WALKED_AT_ONCE = {"zip", "enumerate", "reversed", "range", "items", "keys", "values"}
+WALKERS = {"list", "tuple", "dict", "sorted", "sum", "any", "all", "enumerate", "zip", "min", "max", "join"}
+NO_VALUE_NAMES = set("""
+    items keys values pop update append clear extend insert remove reverse setdefault sort args encode format
+""".split())
 
 
 def tree_of(path):
@@ -66,11 +73,41 @@ def methods_of(path):
     return [part.name for node in classes for part in node.body if isinstance(part, ast.FunctionDef)]
 
 
+def values_of(path):
+    return [node.attr for node in nodes_of(path, ast.Attribute) if isinstance(node.ctx, ast.Store)]
+
+
+def parents_of(path):
+    """Each node of a file, with its parent."""
+    pairs = []
+    for parent in ast.walk(tree_of(path)):
+        pairs.extend((node, parent) for node in ast.iter_child_nodes(parent))
+    return pairs
+
+
+def name_called(node):
+    """The name of what a node calls, or None."""
+    if not isinstance(node, ast.Call):
+        return None
+    return node.func.attr if isinstance(node.func, ast.Attribute) else getattr(node.func, "id", None)
+
+
+def files_drawn_from(path):
+    return [PACKAGE / (node.module.partition(".")[2] + ".py") for node in nodes_of(path, ast.ImportFrom)]
+
+
+def lists_and_dicts_at_top(path):
+    return {
+        target.id for node in tree_of(path).body if isinstance(node, ast.Assign)
+        for target in node.targets if isinstance(node.value, (ast.List, ast.Dict))
+    }
+
+
 def own_attributes():
     names = set()
     for path in FILES:
         names.update(methods_of(path))
-        names.update(node.attr for node in nodes_of(path, ast.Attribute) if isinstance(node.ctx, ast.Store))
+        names.update(values_of(path))
     return names
 
 
@@ -167,6 +204,88 @@ class LanguageTest(unittest.TestCase):
                         sides = [node.left] + node.comparators
                         plain = [side for side in sides if isinstance(side, ast.Constant)]
                         self.assertIn(str(plain[0].value if plain else ""), ("None", "True", "False"))
+
+    def test_no_two_files_draw_from_one_another(self):
+        reached = {path: set(files_drawn_from(path)) for path in FILES}
+        for _ in FILES:
+            for path in FILES:
+                reached[path].update(*(reached[source] for source in list(reached[path])))
+        for path in FILES:
+            self.assertNotIn(path, reached[path])
+
+    def test_locals_are_not_called_like_classes_and_imports(self):
+        for path in FILES:
+            with self.subTest(path.name):
+                taken = {node.name for node in nodes_of(path, ast.ClassDef, ast.alias)}
+                names = {node.id for node in nodes_of(path, ast.Name) if isinstance(node.ctx, ast.Store)}
+                names |= {node.arg for node in nodes_of(path, ast.arg)}
+                self.assertEqual(names & taken, set())
+
+    def test_lists_and_dicts_of_the_top_are_only_read(self):
+        for path in FILES:
+            kept = lists_and_dicts_at_top(path)
+            for node, parent in parents_of(path):
+                if isinstance(node, ast.Name) and node.id in kept and isinstance(node.ctx, ast.Load):
+                    with self.subTest(path.name, name=node.id):
+                        self.assertIsInstance(parent, (ast.Subscript, ast.Compare, ast.Attribute))
+                        if isinstance(parent, ast.Subscript):
+                            self.assertIsInstance(parent.ctx, ast.Load)
+                        if isinstance(parent, ast.Attribute):
+                            self.assertEqual(parent.attr, "get")
+
+    def test_methods_and_values_are_called_apart(self):
+        methods = {name for path in FILES for name in methods_of(path)}
+        values = {name for path in FILES for name in values_of(path)}
+        self.assertEqual(methods & values, set())
+        self.assertEqual(values & NO_VALUE_NAMES, set())
+        for path in FILES:
+            for node in nodes_of(path, ast.ClassDef):
+                names = [part.name for part in node.body if isinstance(part, ast.FunctionDef)]
+                self.assertEqual(len(names), len(set(names)))
+
+    def test_errors_are_named_and_made_on_the_spot(self):
+        for path in FILES:
+            with self.subTest(path.name):
+                for node in nodes_of(path, ast.Raise):
+                    self.assertIsInstance(node.exc, ast.Call)
+                for node in nodes_of(path, ast.ExceptHandler):
+                    self.assertIsNotNone(node.type)
+                    for name in ast.walk(node.type):
+                        self.assertNotIn(getattr(name, "id", None), ("Exception", "TypeError"))
+
+    def test_keywords_are_listed_ones(self):
+        for path in FILES:
+            with self.subTest(path.name):
+                for node in nodes_of(path, ast.Call):
+                    for keyword in node.keywords:
+                        self.assertIn(keyword.arg, KEYWORDS.get(name_called(node), ()))
+                        if keyword.arg in ("reverse", "strict"):
+                            self.assertIsInstance(keyword.value, ast.Constant)
+
+    def test_what_is_walked_is_walked_at_once(self):
+        for path in FILES:
+            for node, parent in parents_of(path):
+                if name_called(node) in WALKED_AT_ONCE:
+                    with self.subTest(path.name, line=node.lineno):
+                        if isinstance(parent, (ast.For, ast.comprehension)):
+                            self.assertIs(parent.iter, node)
+                        else:
+                            self.assertIn(name_called(parent), WALKERS)
+
+    def test_sets_are_not_kept(self):
+        for path in FILES:
+            for node, parent in parents_of(path):
+                if name_called(node) in ("set", "frozenset") or isinstance(node, ast.Set):
+                    with self.subTest(path.name, line=node.lineno):
+                        if not isinstance(parent, (ast.Compare, ast.BinOp)):
+                            self.assertIn(name_called(parent), ("sorted", "len"))
+
+    def test_no_init_gives_anything_back(self):
+        for path in FILES:
+            for node in nodes_of(path, ast.FunctionDef):
+                if node.name == "__init__":
+                    returns = [part for part in ast.walk(node) if isinstance(part, ast.Return)]
+                    self.assertEqual([part.value for part in returns if part.value is not None], [])
 
 
 if __name__ == "__main__":
