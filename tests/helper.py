@@ -1,5 +1,6 @@
-"""For all tests that ask what is refused: how it is asked, and things of any other sort."""
+"""What several tests share: things of any other sort, how refusals are asked for, orders."""
 
+import itertools
 import reprlib
 import unittest
 
@@ -56,6 +57,12 @@ def other_things():
         object(), int, str, len, Ellipsis, NotImplemented, iter(()), ValueError("a"),
         Agreeing(), Failing(), deep_list(5000),
     ]
+
+
+def all_orders(names):
+    """The orders by just these columns, with every way and end."""
+    choices = [[(name, way, end) for way in ("up", "down") for end in ("first", "last")] for name in names]
+    return [(parts, way) for parts in itertools.product(*choices) for way in ("up", "down")]
 
 
 class CheckTest(unittest.TestCase):

@@ -1,7 +1,7 @@
 import itertools
 import unittest
 
-from helper import CheckTest, other_things
+from helper import CheckTest, all_orders, other_things
 from pageturns.errors import BadOrder, BadPlace
 from pageturns.orders import (
     check_gap, check_order, check_place, is_ahead, place_of, places_compared, turned, turned_gap,
@@ -19,12 +19,6 @@ NO_TUPLES = [None, 0, 1, "", "ab", "abc"] + other_things()
 
 def parts_of(names):
     return tuple((name, "up", "first") for name in names)
-
-
-def all_orders(names):
-    """The orders by just these columns, with every way and end."""
-    choices = [[(name, way, end) for way in ("up", "down") for end in ("first", "last")] for name in names]
-    return [(parts, way) for parts in itertools.product(*choices) for way in ("up", "down")]
 
 
 class OrderTest(CheckTest):

@@ -287,6 +287,7 @@ class PassTest(unittest.TestCase):
         self.hold(("is", "maker", "acme"), "pen")
         self.hold(("is", "maker", ""), "bag")
         self.hold(("is", "maker", None), "cap")
+        self.hold(("is", "maker", "every"), "")
 
     def test_below_and_above(self):
         self.hold(("below", "price", 5), "bag")
