@@ -1,10 +1,11 @@
-"""What several tests share: things of any other sort, how refusals are asked for, orders."""
+"""What several tests share: things of any other sort, how refusals are asked for, orders, a shelf."""
 
 import itertools
 import reprlib
 import unittest
 
 from pageturns.errors import PageError
+from pageturns.shelves import Shelf
 
 
 class Agreeing:
@@ -63,6 +64,17 @@ def all_orders(names):
     """The orders by just these columns, with every way and end."""
     choices = [[(name, way, end) for way in ("up", "down") for end in ("first", "last")] for name in names]
     return [(parts, way) for parts in itertools.product(*choices) for way in ("up", "down")]
+
+
+def shelf_of_eight():
+    """A shelf with ties and None in each column, at moment 8."""
+    shelf = Shelf((("price", "number"), ("maker", "word")))
+    for key, worths in (
+        ("pen", (5, "acme")), ("ink", (7, "acme")), ("cap", (None, "bolt")), ("bag", (5, None)),
+        ("box", (5, "acme")), ("rod", (None, None)), ("a2", (7, "")), ("a10", (-7, "acme co")),
+    ):
+        shelf.put(key, worths)
+    return shelf
 
 
 class CheckTest(unittest.TestCase):

@@ -1,7 +1,7 @@
 import functools
 import unittest
 
-from helper import CheckTest, all_orders, other_things
+from helper import CheckTest, all_orders, other_things, shelf_of_eight
 from pageturns.answers import count_of, plain
 from pageturns.errors import BadOrder, BadSieve, NoMoment
 from pageturns.orders import place_of, places_compared
@@ -21,12 +21,7 @@ SIEVES = (
 
 def some_shelf():
     """Rows with ties in each column; at moment 8 all stand, behind it one is changed and two are taken."""
-    shelf = Shelf(GOODS)
-    for key, worths in (
-        ("pen", (5, "acme")), ("ink", (7, "acme")), ("cap", (None, "bolt")), ("bag", (5, None)),
-        ("box", (5, "acme")), ("rod", (None, None)), ("a2", (7, "")), ("a10", (-7, "acme co")),
-    ):
-        shelf.put(key, worths)
+    shelf = shelf_of_eight()
     shelf.change("pen", (9, "bolt"))
     shelf.take("box")
     shelf.take("rod")

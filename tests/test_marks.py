@@ -116,7 +116,8 @@ class BothWaysTest(unittest.TestCase):
             parts = tuple((name, chance.choice(("up", "down")), chance.choice(("first", "last"))) for name in names)
             values = tuple(self.any_value(chance, dict(GOODS)[name]) for name in names)
             order = (parts, chance.choice(("up", "down")))
-            self.hold(GOODS, (chance.randrange(10 ** 18), order, ((values, "pen2"), chance.choice(("ahead", "behind")))))
+            gap = ((values, "pen2"), chance.choice(("ahead", "behind")))
+            self.hold(GOODS, (chance.randrange(10 ** 18), order, gap))
 
     def any_value(self, chance, kind):
         if chance.random() < 0.2:
@@ -177,7 +178,7 @@ class NoMarkTest(CheckTest):
                 ahead, behind = words[:place], words[place + 1:]
                 self.bad(" ".join(ahead + behind))
                 self.bad(" ".join(ahead + [word, word] + behind))
-                for other in ("", "X", word + "\n", "\n" + word, word.upper() + "A", word + "=", "(", "pen 2", "+1", "Pen"):
+                for other in ("", "X", word + "\n", "\n" + word, word.upper() + "A", word + "=", "(", "a 2", "+1"):
                     self.bad(" ".join(ahead + [other] + behind))
                 for second in range(place + 1, len(words)):
                     # Two ways, or two ends, may stand in one another's places.

@@ -1,7 +1,7 @@
 import itertools
 import unittest
 
-from helper import CheckTest, all_orders, other_things
+from helper import CheckTest, all_orders, other_things, shelf_of_eight
 from pageturns.answers import plain
 from pageturns.errors import BadOrder, BadPlace, BadSieve, BadSize, NoMoment
 from pageturns.orders import is_ahead, place_of, turned, turned_gap
@@ -30,12 +30,7 @@ NO_MOMENTS = (-1, "0")
 
 def some_shelf():
     """By price down, None last, at moment 8: a2 ink bag box pen a10 cap rod. Now is 10."""
-    shelf = Shelf(GOODS)
-    for key, worths in (
-        ("pen", (5, "acme")), ("ink", (7, "acme")), ("cap", (None, "bolt")), ("bag", (5, None)),
-        ("box", (5, "acme")), ("rod", (None, None)), ("a2", (7, "")), ("a10", (-7, "acme co")),
-    ):
-        shelf.put(key, worths)
+    shelf = shelf_of_eight()
     shelf.change("pen", (9, "bolt"))
     shelf.take("rod")
     return shelf
@@ -173,26 +168,16 @@ class PageTest(unittest.TestCase):
 
 
 class EndToEndTest(unittest.TestCase):
-    def pages_on(self, order, sieve, sizes, moment):
-        """Pages from the first one to one without rows, each from the hinder gap of the one ahead."""
+    def pages(self, ask, order, sieve, sizes, moment):
+        """Pages to the first one without rows, each from a gap of the one told ahead: its hinder one to go on."""
         pages = []
         gap = None
         for size in itertools.cycle(sizes):
-            page = page_on(SHELF, order, sieve, size, gap, moment)
+            page = ask(SHELF, order, sieve, size, gap, moment)
             pages.append(page)
             if not page[0]:
                 return pages
-            gap = gaps_of(GOODS, order, page)[1]
-
-    def pages_back(self, order, sieve, sizes, moment):
-        pages = []
-        gap = None
-        for size in itertools.cycle(sizes):
-            page = page_back(SHELF, order, sieve, size, gap, moment)
-            pages.append(page)
-            if not page[0]:
-                return pages
-            gap = gaps_of(GOODS, order, page)[0]
+            gap = gaps_of(GOODS, order, page)[ask is page_on]
 
     def hold(self, pages, sizes, answer):
         rows = []
@@ -207,11 +192,9 @@ class EndToEndTest(unittest.TestCase):
         for order, sieve, sizes, moment in itertools.product(ORDERS, SIEVES, SIZES, MOMENTS):
             with self.subTest(order=order, sieve=sieve, sizes=sizes, moment=moment):
                 answer = plain(SHELF, order, sieve, moment)
-                self.hold(self.pages_on(order, sieve, sizes, moment), sizes, answer)
-                turned_pages = [
-                    (rows[::-1], behind, ahead) for rows, ahead, behind in self.pages_back(order, sieve, sizes, moment)
-                ]
-                self.hold(turned_pages, sizes, answer[::-1])
+                self.hold(self.pages(page_on, order, sieve, sizes, moment), sizes, answer)
+                pages = self.pages(page_back, order, sieve, sizes, moment)
+                self.hold([(rows[::-1], behind, ahead) for rows, ahead, behind in pages], sizes, answer[::-1])
 
 
 class TurnedTest(unittest.TestCase):
@@ -342,26 +325,24 @@ class RefusalTest(CheckTest):
             self.bad(NoMoment, BY_PRICE, NOTHING, 5, (((5,), "pen"), "ahead"), moment)
             self.hold_bad(NoMoment, stretch, SHELF, BY_PRICE, EVERY, None, None, moment)
 
-    def test_of_several_the_first_one_is_raised(self):
-        right = ((BY_PRICE,), (EVERY,), (5,), (None, (((5,), "pen"), "ahead")), (None, 8))
-        wrong = (NO_ORDERS, NO_SIEVES, NO_SIZES, NO_GAPS, NO_MOMENTS)
-        errors = (BadOrder, BadSieve, BadSize, BadPlace, NoMoment)
-        for faulty in itertools.product((False, True), repeat=5):
+    def hold_first(self, asks, right, wrong, errors):
+        """Whichever arguments are wrong ones: the first one's error is raised."""
+        for faulty in itertools.product((False, True), repeat=len(errors)):
             if any(faulty):
                 choices = [wrong[place] if fault else right[place] for place, fault in enumerate(faulty)]
-                for given in itertools.product(*choices):
-                    self.bad(errors[faulty.index(True)], *given)
+                for ask, given in itertools.product(asks, itertools.product(*choices)):
+                    self.hold_bad(errors[faulty.index(True)], ask, SHELF, *given)
 
-    def test_of_several_the_first_one_is_raised_of_a_stretch(self):
-        gap = (((5,), "pen"), "ahead")
-        right = ((BY_PRICE,), (EVERY,), (None, gap), (None, gap), (None, 8))
-        wrong = (NO_ORDERS, NO_SIEVES, NO_GAPS, NO_GAPS, NO_MOMENTS)
-        errors = (BadOrder, BadSieve, BadPlace, BadPlace, NoMoment)
-        for faulty in itertools.product((False, True), repeat=5):
-            if any(faulty):
-                choices = [wrong[place] if fault else right[place] for place, fault in enumerate(faulty)]
-                for given in itertools.product(*choices):
-                    self.hold_bad(errors[faulty.index(True)], stretch, SHELF, *given)
+    def test_of_several_the_first_one_is_raised(self):
+        gaps = (None, (((5,), "pen"), "ahead"))
+        self.hold_first(
+            (page_on, page_back), ((BY_PRICE,), (EVERY,), (5,), gaps, (None, 8)),
+            (NO_ORDERS, NO_SIEVES, NO_SIZES, NO_GAPS, NO_MOMENTS), (BadOrder, BadSieve, BadSize, BadPlace, NoMoment),
+        )
+        self.hold_first(
+            (stretch,), ((BY_PRICE,), (EVERY,), gaps, gaps, (None, 8)),
+            (NO_ORDERS, NO_SIEVES, NO_GAPS, NO_GAPS, NO_MOMENTS), (BadOrder, BadSieve, BadPlace, BadPlace, NoMoment),
+        )
 
 
 class UnchangedTest(unittest.TestCase):
