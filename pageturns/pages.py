@@ -13,13 +13,21 @@ def page_on(shelf, order, sieve, size, gap=None, moment=None):
     check_page(shelf.has_columns(), order, sieve, size, gap)
     answer = ordered_answer(shelf, order, sieve, moment)
     begin = 0 if gap is None else count_ahead(shelf.has_columns(), order, answer, gap)
-    return page_between(answer, begin, min(begin + size, len(answer)))
+    return page_from(answer, begin, size)
 
 
 def page_back(shelf, order, sieve, size, gap=None, moment=None):
     check_page(shelf.has_columns(), order, sieve, size, gap)
     answer = ordered_answer(shelf, order, sieve, moment)
     end = len(answer) if gap is None else count_ahead(shelf.has_columns(), order, answer, gap)
+    return page_up_to(answer, end, size)
+
+
+def page_from(answer, begin, size):
+    return page_between(answer, begin, min(begin + size, len(answer)))
+
+
+def page_up_to(answer, end, size):
     return page_between(answer, max(end - size, 0), end)
 
 
@@ -62,6 +70,12 @@ def gaps_of(columns, order, page):
     if len(rows) == 0:
         return None
     return ((place_of(columns, order, rows[0]), "ahead"), (place_of(columns, order, rows[-1]), "behind"))
+
+
+def gaps_behind(columns, order, page, asked_from):
+    """Where one stands behind a page: at its gaps, or twice at where it was asked from if it is without rows."""
+    gaps = gaps_of(columns, order, page)
+    return (asked_from, asked_from) if gaps is None else gaps
 
 
 def stretch(shelf, order, sieve, fore=None, hinder=None, moment=None):

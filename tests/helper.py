@@ -1,4 +1,4 @@
-"""What several tests share: things of any other sort, how refusals are asked for, orders, a shelf."""
+"""What several tests share: things of any other sort, how refusals are asked for, orders, a shelf, deeds."""
 
 import itertools
 import reprlib
@@ -6,6 +6,13 @@ import unittest
 
 from pageturns.errors import PageError
 from pageturns.shelves import Shelf
+
+SIXTY = int("9" * 60)
+GOODS = (("price", "number"), ("maker", "word"))
+EVERY = ("every",)
+NOTHING = ("not", EVERY)
+BY_KEY = ((), "up")
+BY_PRICE = ((("price", "down", "last"),), "up")
 
 
 class Agreeing:
@@ -66,15 +73,28 @@ def all_orders(names):
     return [(parts, way) for parts in itertools.product(*choices) for way in ("up", "down")]
 
 
+def keys_of(rows):
+    return " ".join(key for key, worths in rows)
+
+
 def shelf_of_eight():
     """A shelf with ties and None in each column, at moment 8."""
-    shelf = Shelf((("price", "number"), ("maker", "word")))
+    shelf = Shelf(GOODS)
     for key, worths in (
         ("pen", (5, "acme")), ("ink", (7, "acme")), ("cap", (None, "bolt")), ("bag", (5, None)),
         ("box", (5, "acme")), ("rod", (None, None)), ("a2", (7, "")), ("a10", (-7, "acme co")),
     ):
         shelf.put(key, worths)
     return shelf
+
+
+def any_deed(chance, shelf, keys):
+    """A deed of one of the keys that a shelf of GOODS does not refuse, with worths that make ties."""
+    key = chance.choice(keys)
+    worths = (chance.choice((None, -1, 0, 1, 2)), chance.choice((None, "", "a", "b")))
+    if shelf.worths_at(key) is None:
+        return ("put", key, worths)
+    return chance.choice((("change", key, worths), ("take", key)))
 
 
 class CheckTest(unittest.TestCase):
@@ -92,3 +112,21 @@ class CheckTest(unittest.TestCase):
                     self.assertIs(type(raised), error)
                 else:
                     self.fail("not refused")
+
+    def hold_own(self, ask):
+        """What the asker does to a list that was told changes nothing of what is told next."""
+        told = ask()
+        right = list(told)
+        told.reverse()
+        told.append("more")
+        self.assertEqual(ask(), right)
+        told.clear()
+        self.assertEqual(ask(), right)
+
+    def hold_first(self, asks, right, wrong, errors):
+        """Whichever of the things that are handed in are wrong ones: the first one's error is raised."""
+        for faulty in itertools.product((False, True), repeat=len(errors)):
+            if any(faulty):
+                choices = [wrong[place] if fault else right[place] for place, fault in enumerate(faulty)]
+                for ask, given in itertools.product(asks, itertools.product(*choices)):
+                    self.hold_bad(errors[faulty.index(True)], ask, *given)

@@ -1,18 +1,13 @@
 import functools
 import unittest
 
-from helper import CheckTest, all_orders, other_things, shelf_of_eight
+from helper import BY_KEY, BY_PRICE, EVERY, GOODS, SIXTY, CheckTest, all_orders, keys_of, other_things, shelf_of_eight
 from pageturns.answers import count_of, plain
 from pageturns.errors import BadOrder, BadSieve, NoMoment
 from pageturns.orders import place_of, places_compared
 from pageturns.shelves import Shelf
 from pageturns.sieves import passes
 
-SIXTY = int("9" * 60)
-GOODS = (("price", "number"), ("maker", "word"))
-EVERY = ("every",)
-BY_KEY = ((), "up")
-BY_PRICE = ((("price", "down", "last"),), "up")
 SIEVES = (
     EVERY, ("not", EVERY), ("is", "price", None), ("above", "price", 4), ("begins", "maker", "a"),
     ("key", ("cap", "pen", "never")), ("or", (("is", "maker", None), ("below", "price", 6))),
@@ -26,10 +21,6 @@ def some_shelf():
     shelf.take("box")
     shelf.take("rod")
     return shelf
-
-
-def keys_of(rows):
-    return " ".join(key for key, worths in rows)
 
 
 class PlainTest(unittest.TestCase):

@@ -1,11 +1,10 @@
 import unittest
 
-from helper import CheckTest, other_things, shown
+from helper import GOODS, CheckTest, other_things, shown
 from pageturns.deeds import check_deed, do_deed
 from pageturns.errors import BadDeed, BadRow, HasKey, NoKey, PageError
 from pageturns.shelves import Shelf
 
-GOODS = (("price", "number"), ("maker", "word"))
 DEEDS = [
     ("put", "pen", (5, "acme")), ("put", "ink", (None, None)), ("change", "pen", (5, "acme")),
     ("take", "ink"), ("put", "ink", (7, "")), ("take", "pen"),
