@@ -1,6 +1,6 @@
 """Deeds, as tuples: what was done to a shelf, or is to be done to one."""
 
-from pageturns.errors import BadDeed
+from pageturns.errors import BadDeed, PageError
 
 LENGTHS = {"put": 3, "change": 3, "take": 2}
 
@@ -21,3 +21,12 @@ def do_deed(shelf, deed):
         shelf.change(deed[1], deed[2])
     else:
         shelf.take(deed[1])
+
+
+def is_done(shelf, deed):
+    """Whether a deed could be done, and so was: not where it is none, nor where the shelf refuses it."""
+    try:
+        do_deed(shelf, deed)
+    except PageError:
+        return False
+    return True

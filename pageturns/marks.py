@@ -2,7 +2,7 @@
 
 from pageturns.errors import BadOrder, BadPlace, NoMark
 from pageturns.orders import check_gap, check_order
-from pageturns.values import is_figure
+from pageturns.values import is_figure, is_word
 
 MOST_MOMENT_FIGURES = 18
 MOST_NUMBER_FIGURES = 60
@@ -21,15 +21,17 @@ def value_text(value):
 
 
 def mark_text(mark):
-    order = mark[1]
     gap = mark[2]
-    words = ["mark", str(mark[0])]
+    words = ["mark", str(mark[0])] + order_words(mark[1]) + ["at"]
+    words.extend([value_text(value) for value in gap[0][0]])
+    return " ".join(words + [gap[0][1], gap[1]])
+
+
+def order_words(order):
+    words = []
     for part in order[0]:
         words.extend(part)
-    words.extend(["key", order[1], "at"])
-    words.extend([value_text(value) for value in gap[0][0]])
-    words.extend([gap[0][1], gap[1]])
-    return " ".join(words)
+    return words + ["key", order[1]]
 
 
 def read_mark(columns, text):
@@ -37,7 +39,7 @@ def read_mark(columns, text):
         raise NoMark("a mark's text is a text")
     mark = mark_in_words(text.split(" "))
     check_mark(columns, mark)
-    # What else might be read in two ways, or stand where nothing is looked at, is told apart by writing it.
+    # The words mark, key and at were not looked at: whether they stand there is told by writing it.
     if mark_text(mark) != text:
         raise NoMark("a mark is not written so")
     return mark
@@ -56,28 +58,39 @@ def mark_in_words(words):
     many = len(words) - WORDS_ALWAYS
     if many < 0 or many % WORDS_OF_A_PART != 0:
         raise NoMark("a mark has other words")
-    many = many // WORDS_OF_A_PART
-    behind_parts = 2 + 3 * many
-    parts = [tuple(words[at:at + 3]) for at in range(2, behind_parts, 3)]
-    values = [read_value(word) for word in words[behind_parts + 3:-2]]
-    place = (tuple(values), words[-2])
-    return (read_moment(words[1]), (tuple(parts), words[behind_parts + 1]), (place, words[-1]))
+    behind_order = 4 + 3 * (many // WORDS_OF_A_PART)
+    value_words = words[behind_order + 1:-2]
+    if not is_moment_text(words[1]) or not all([is_value_text(word) for word in value_words]):
+        raise NoMark("the moment or a value is not written so")
+    place = (tuple([value_of_text(word) for word in value_words]), words[-2])
+    return (int(words[1]), order_in_words(words[2:behind_order]), (place, words[-1]))
 
 
-def read_moment(word):
-    if word.startswith("-") or not is_number_text(word, MOST_MOMENT_FIGURES):
-        raise NoMark("a moment is a number from 0 on of at most eighteen figures")
-    return int(word)
+def order_in_words(words):
+    """What stands where an order's words stand: three for each part, one that is not looked at, and the way."""
+    parts = [tuple(words[at:at + 3]) for at in range(0, len(words) - 2, 3)]
+    return (tuple(parts), words[-1])
 
 
-def read_value(word):
-    if word == "-":
+def is_moment_text(text):
+    return not text.startswith("-") and is_number_text(text, MOST_MOMENT_FIGURES)
+
+
+def is_value_text(text):
+    if text.startswith("#"):
+        return is_number_text(text[1:], MOST_NUMBER_FIGURES)
+    if text.startswith('"'):
+        return is_word(value_of_text(text)) and value_text(value_of_text(text)) == text
+    return text == "-"
+
+
+def value_of_text(text):
+    """The value that is written so."""
+    if text == "-":
         return None
-    if word.startswith("#") and is_number_text(word[1:], MOST_NUMBER_FIGURES):
-        return int(word[1:])
-    if word.startswith('"'):
-        return word[1:].replace("=b", " ").replace("=e", "=")
-    raise NoMark("a value is not written so")
+    if text.startswith("#"):
+        return int(text[1:])
+    return text[1:].replace("=b", " ").replace("=e", "=")
 
 
 def is_number_text(text, most):

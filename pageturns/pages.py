@@ -11,15 +11,22 @@ MOST_ROWS = 1000
 
 def page_on(shelf, order, sieve, size, gap=None, moment=None):
     check_page(shelf.has_columns(), order, sieve, size, gap)
-    answer = ordered_answer(shelf, order, sieve, moment)
-    begin = 0 if gap is None else count_ahead(shelf.has_columns(), order, answer, gap)
-    return page_from(answer, begin, size)
+    return page_on_of(shelf.has_columns(), order, ordered_answer(shelf, order, sieve, moment), size, gap)
 
 
 def page_back(shelf, order, sieve, size, gap=None, moment=None):
     check_page(shelf.has_columns(), order, sieve, size, gap)
-    answer = ordered_answer(shelf, order, sieve, moment)
-    end = len(answer) if gap is None else count_ahead(shelf.has_columns(), order, answer, gap)
+    return page_back_of(shelf.has_columns(), order, ordered_answer(shelf, order, sieve, moment), size, gap)
+
+
+def page_on_of(columns, order, answer, size, gap):
+    """The page on of a plain answer, of what is checked already."""
+    begin = 0 if gap is None else count_ahead(columns, order, answer, gap)
+    return page_from(answer, begin, size)
+
+
+def page_back_of(columns, order, answer, size, gap):
+    end = len(answer) if gap is None else count_ahead(columns, order, answer, gap)
     return page_up_to(answer, end, size)
 
 

@@ -67,6 +67,20 @@ def other_things():
     ]
 
 
+def no_lists():
+    return [None, 0, "", "put", (), (1,)] + [thing for thing in other_things() if not isinstance(thing, list)]
+
+
+class Tripping(tuple):
+    """A tuple that must not be looked into."""
+
+    def __len__(self):
+        raise RuntimeError("counted")
+
+    def __getitem__(self, place):
+        raise RuntimeError("looked into")
+
+
 def all_orders(names):
     """The orders by just these columns, with every way and end."""
     choices = [[(name, way, end) for way in ("up", "down") for end in ("first", "last")] for name in names]

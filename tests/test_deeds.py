@@ -1,7 +1,7 @@
 import unittest
 
 from helper import GOODS, CheckTest, other_things, shown
-from pageturns.deeds import check_deed, do_deed
+from pageturns.deeds import check_deed, do_deed, is_done
 from pageturns.errors import BadDeed, BadRow, HasKey, NoKey, PageError
 from pageturns.shelves import Shelf
 
@@ -61,6 +61,12 @@ class DoneTest(unittest.TestCase):
             for key in ("pen", "ink"):
                 self.assertEqual(other.standings_of(key), shelf.standings_of(key))
 
+    def test_it_is_told_whether_a_deed_was_done(self):
+        shelf = Shelf(GOODS)
+        for deed in DEEDS:
+            self.assertIs(is_done(shelf, deed), True)
+        self.assertEqual(shelf.history(), DEEDS)
+
     def test_the_form_goes_first_then_what_the_shelf_refuses(self):
         for deed, error in (
             (("put", "Pen"), BadDeed), (("take", "Pen", ()), BadDeed), (["take", "ink"], BadDeed),
@@ -76,6 +82,7 @@ class DoneTest(unittest.TestCase):
                     self.assertIs(type(raised), error)
                 else:
                     self.fail("not refused")
+                self.assertIs(is_done(shelf, deed), False)
                 self.assertEqual(shelf.history(), DEEDS)
                 self.assertEqual(shelf.all_at(), [("ink", (7, ""))])
 
