@@ -258,7 +258,8 @@ class LineTest(DeskTest):
         self.bad(NoText, "count 3| ( every )", "count 3 |( every )", "count 3 ( every )")
 
     def test_blanks_more_belong_to_the_parts(self):
-        self.bad(NoText, "age  5", "age 5 ", "age ", "age 5 5", "columns  price number", "put  new #1 -", "put new #1 - ")
+        self.bad(NoText, "age  5", "age 5 ", "age ", "age 5 5", "columns  price number")
+        self.bad(NoText, "put  new #1 -", "put new  #1 -", "put new #1 - ")
         self.bad(BadRow, "take  pen", "take pen ", "take ", "take pen pen", "put  #1 -")
         self.bad(BadColumns, "columns  ")
         for line in LINES[7:9] + LINES[11:]:
@@ -301,7 +302,7 @@ class PartTest(DeskTest):
         for word in ("put", "change"):
             for row in ("( - -", "new 1 -", "new #1 - x", "new #01 -", 'new #1 "=', 'new #1 "' + "a" * 41, ") #1"):
                 self.bad(NoText, word + " " + row)
-            for row in ("", "new", "new #1", "new #1 - -", 'new "a #1', "New #1 -", "- #1 -", " #1 -", "pen #1", "n\n #1 -"):
+            for row in ("", "new", "new #1", "new #1 - -", 'new "a #1', "New #1 -", "- #1 -", " #1 -", "n\n #1 -"):
                 self.bad(BadRow, word + " " + row)
         self.bad(HasKey, "put pen #5 \"acme", "put pen - -")
         self.bad(NoKey, "change new #1 -", "take new", "take key")
@@ -360,7 +361,9 @@ class PartTest(DeskTest):
         sizes = ((None, "2"), (NoText, "02"), (BadSize, "0"))
         orders = ((None, ORDER), (NoText, "key"), (BadOrder, "cost up last key up"))
         sieves = ((None, "( every )"), (NoText, "every"), (BadSieve, "( is cost #5 )"))
-        marks = ((None, MARK), (NoMark, "x"), (NoMark, mark_at(9, "#5 box ahead")), (OldMark, mark_at(3, "#5 box ahead")))
+        marks = (
+            (None, MARK), (NoMark, "x"), (NoMark, mark_at(9, "#5 box ahead")), (OldMark, mark_at(3, "#5 box ahead")),
+        )
         moments = ((None, "3"), (NoText, "x"), (NoMoment, "9"))
         self.hold_first_of_parts(("first", "last"), (sizes, orders, sieves))
         self.hold_first_of_parts(("on", "back"), (sizes, sieves, marks))
@@ -377,7 +380,8 @@ class PartTest(DeskTest):
         desk.say("age 3")
         for line, error in (
             ("columns price", NoText), ("columns price text", BadColumns), ("age x", NoText), ("columns", NoLine),
-            ("put pen - -", HasKey), ("change new - -", NoKey), ("take new", NoKey), ("first 0 | key up | ( every )", BadSize),
+            ("put pen - -", HasKey), ("change new - -", NoKey), ("take new", NoKey),
+            ("first 0 | key up | ( every )", BadSize),
         ):
             self.hold_bad(error, desk.say, line)
         self.hold(desk, "now", "8")

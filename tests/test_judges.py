@@ -93,7 +93,8 @@ class RightTest(JudgeTest):
     def test_answers_come_in_any_order(self):
         back = ("back", BY_KEY, ("is", "maker", None), 1, (((), "ink"), "ahead"))
         events = DEEDS[:2] + [("asked", 1, QUESTION), ("asked", 2, back)] + DEEDS[2:] + [
-            ("told", 2, ([("cap", (9, None))], 0, 1)), ("told", 1, PAGES[3]), ("asked", 3, QUESTION), ("told", 3, PAGES[5]),
+            ("told", 2, ([("cap", (9, None))], 0, 1)), ("told", 1, PAGES[3]),
+            ("asked", 3, QUESTION), ("told", 3, PAGES[5]),
         ]
         self.hold(events, None)
 
@@ -125,7 +126,8 @@ class AmissTest(JudgeTest):
                 None, 5, "", "put", (), [], ["put", "new", (1, None)], ("Put", "new", (1, None)), ("page", []),
                 ("ask", 3, QUESTION), ("asked",), ("asked", 3), ("asked", 3, QUESTION, None), ("told",), ("told", 1),
                 ("told", 1, PAGES[2], None), ("asked", True, QUESTION), ("asked", "3", QUESTION), ("", "pen"),
-                ("asked", None, QUESTION), ("asked", 3.0, QUESTION), ("asked", (3,), QUESTION), ("asked", [3], QUESTION),
+                ("asked", None, QUESTION), ("asked", 3.0, QUESTION), ("asked", (3,), QUESTION),
+                ("asked", [3], QUESTION),
                 ("told", True, PAGES[2]), ("told", "1", PAGES[2]), ("told", None, PAGES[2]), ("told", [1], PAGES[2]),
                 (None, 3, QUESTION), (("asked",), 3, QUESTION), (5, "pen"), (True, "pen"), ("asked ", 3, QUESTION),
             ],
@@ -151,9 +153,9 @@ class AmissTest(JudgeTest):
                 ("told", 3, PAGES[2]), ("told", 0, PAGES[2]), ("told", -1, PAGES[2]), ("told", 2, PAGES[2]),
                 ("told", 2, None), ("told", 3, None), ("told", 3, Failing()), ("told", 2, PAGES[1]),
             ],
-            "page": [
-                ("told", 1, page) for page in (None, PAGES[0], PAGES[1], PAGES[3], list(PAGES[2]), Failing(), Agreeing())
-            ],
+            "page": [("told", 1, page) for page in (
+                None, PAGES[0], PAGES[1], PAGES[3], list(PAGES[2]), Failing(), Agreeing(),
+            )],
         }
 
     def test_each_word(self):
@@ -245,7 +247,8 @@ class PageTest(JudgeTest):
         rows = [self.ROW]
         for page in (
             ([], 1, 1), ([], 1, 2), (rows + [("c", (0, ""))], 1, 0), (rows + rows, 1, 1), (rows, 0, 1), (rows, 2, 1),
-            (rows, 1, 0), (rows, 1, 2), ([("b", (1, ""))], 1, 1), ([("b", (2, None))], 1, 1), ([("b", (None, None))], 1, 1),
+            (rows, 1, 0), (rows, 1, 2), ([("b", (1, ""))], 1, 1), ([("b", (2, None))], 1, 1),
+            ([("b", (None, None))], 1, 1),
             ([("b", (1,))], 1, 1), ([("b", (1, None, None))], 1, 1), ([("a", (1, None))], 1, 1), ([("b",)], 1, 1),
             ([("b", (1, None), 5)], 1, 1), ([("b", None)], 1, 1), ([(None, (1, None))], 1, 1), ([None], 1, 1),
             ([("c", (0, ""))], 2, 0),
@@ -333,6 +336,22 @@ class ByChanceTest(JudgeTest):
             self.assertEqual(repr(events), before)
             counts[right and right[1]] += 1
         self.assertGreater(min(counts.values()), 50)
+
+
+class ManyTest(JudgeTest):
+    def test_three_hundred_rows_and_two_thousand_deeds(self):
+        shelf = Shelf(GOODS)
+        question = ("back", BY_PRICE, ("not", ("is", "maker", "b")), 20, (((3,), "k5"), "behind"))
+        for number in range(300):
+            shelf.put("k" + str(number), (number % 7, None))
+        deeds = shelf.history()
+        for number in range(1700):
+            shelf.change("k" + str(number * 11 % 300), (number % 9, "ab"[number % 2]))
+        events = deeds + [("asked", 1, question), ("asked", 2, question)] + shelf.history()[300:]
+        page = page_back(shelf, *question[1:], 1200)
+        self.hold(events + [("told", 1, page)], None)
+        wrong = ("told", 2, (page[0][::-1], page[1], page[2]))
+        self.hold(events + [("told", 1, page), wrong], (2003, "page"))
 
 
 if __name__ == "__main__":

@@ -145,6 +145,9 @@ class LanguageTest(unittest.TestCase):
                     self.assertEqual(node.orelse, [])
                 for node in nodes_of(path, ast.Assign):
                     self.assertEqual(len(node.targets), 1)
+                for node in nodes_of(path, ast.FormattedValue):
+                    self.assertIsInstance(node.value, ast.Name)
+                    self.assertIsNone(node.format_spec)
                 for node in nodes_of(path, ast.ListComp):
                     self.assertEqual(len(node.generators), 1)
                     self.assertLessEqual(len(node.generators[0].ifs), 1)

@@ -163,6 +163,11 @@ class NoMarkTest(CheckTest):
     def test_other_texts(self):
         for text in ("", " ", "\n", "mark", "mark 7", "none", "-", "mark 7 key up at", "mark 7 key up at pen2"):
             self.bad(text)
+        for words in (PEN_TEXT.split(), "mark 7 key up at pen2 ahead".split()):
+            for count in range(len(words)):
+                self.bad(" ".join(words[:count]))
+                if count > 0:
+                    self.bad(" ".join(words[count:]))
         self.bad(" " * 6)
         self.bad(" " * 1000)
         self.bad("mark 7 " + "a up first " * 3000 + "key up at " + '"a ' * 3000 + "pen2 ahead", EIGHT)

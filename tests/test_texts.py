@@ -89,7 +89,8 @@ class RowTest(TextTest):
         self.bad(BadRow, ' #5 "acme', " - -", ' "')
 
     def test_texts_that_fit_no_columns(self):
-        self.bad(BadRow, "pen", "pen #5", 'pen #5 "acme -', 'pen "acme #5', "pen #5 #5", 'pen "5 "acme', "pen" + " -" * 9)
+        self.bad(BadRow, "pen", "pen #5", 'pen #5 "acme -', 'pen "acme #5', "pen #5 #5", 'pen "5 "acme')
+        self.bad(BadRow, "pen" + " -" * 9, "pen" + " #5" * 1000)
         self.bad(BadRow, "pen -", columns=())
 
     def test_what_is_no_text(self):
@@ -130,7 +131,8 @@ class OrderTest(TextTest):
         self.bad(
             NoText, "", "key", "up", "key up up", "up key", "price down last key", "price down last", "price key up",
             "price down key up", "price down last last key up", "price down last price down key up", "price down last",
-            "price down last key up key up", "price down last up key", "price down last kye up", "price down last Key up",
+            "price down last key up key up", "price down last up key", "price down last kye up",
+            "price down last Key up",
             "price down last  up", "price down last key", "mark 7 price down last key up",
         )
 
@@ -148,7 +150,8 @@ class OrderTest(TextTest):
 
     def test_texts_that_fit_no_columns(self):
         self.bad(
-            BadOrder, "cost down last key up", "price Down last key up", "price down end key up", "price down last key Up",
+            BadOrder, "cost down last key up", "price Down last key up", "price down end key up",
+            "price down last key Up",
             "price last down key up", "price down last price up last key up", "Price down last key up", "key key",
             "#5 - \" key up", "price down last key down!",
         )
@@ -173,7 +176,8 @@ class ColumnsTest(TextTest):
             self.hold(show_columns, read_columns, columns, text)
 
     def test_an_odd_number_of_words(self):
-        self.bad(NoText, "price", "number", "price number maker", "  ", "price number ", " price number", "price  number")
+        self.bad(NoText, "price", "number", "price number maker", "  ", "price number ", " price number")
+        self.bad(NoText, "price  number", "\n")
 
     def test_brackets(self):
         self.bad(NoText, "( number", "price )", "price (", "( price number )", "price number ( word", "( )")
@@ -243,9 +247,11 @@ class SieveTest(TextTest):
 
     def test_towers_that_are_not_closed(self):
         for depth in (2, 9, 1000, 20000):
-            self.bad(NoText, "( not " * depth + "( every )", "( not " * depth, "( not " * depth + "( every" + " )" * depth)
+            self.bad(NoText, "( not " * depth + "( every )", "( not " * depth)
+            self.bad(NoText, "( not " * depth + "( every" + " )" * depth)
             self.bad(NoText, "( every )" + " )" * depth, "( not" * depth, ") " * depth, "( " * depth, "(" * depth)
-            self.bad(NoText, tower(depth) + " )", tower(depth)[:-2], tower(depth)[2:], tower(depth).replace("every", "all"))
+            self.bad(NoText, tower(depth) + " )", tower(depth)[:-2], tower(depth)[2:])
+            self.bad(NoText, tower(depth).replace("every", "all"))
 
     def test_two_hundred_and_two_hundred_and_one_parts(self):
         # One and, eight ors in it, and so on: 1 + 8 + 64 + 127 is two hundred.
@@ -266,7 +272,8 @@ class SieveTest(TextTest):
     def test_words_too_few_and_too_many(self):
         self.bad(
             NoText, "", "every", "( )", "( every", "every )", "( every every )", "( every ( every ) )", "( every #5 )",
-            "( is )", "( is price )", "( is price #5 #5 )", "( is #5 )", "( is price ( every ) )", "( is ( every ) #5 )",
+            "( is )", "( is price )", "( is price #5 #5 )", "( is #5 )", "( is price ( every ) )",
+            "( is ( every ) #5 )",
             "( below price )", "( above )", '( begins maker "a "b )', "( begins maker )", "( key ( every ) )",
             "( key a ( key ) )", "( not )", "( not every )", "( not ( every ) ( every ) )", "( not ( every ) every )",
             "( and every )", "( and ( every ) a )", "( or a )", "( or a ( every ) )", "( and #5 )", "( ( every ) )",
@@ -316,14 +323,17 @@ class SieveTest(TextTest):
     def test_texts_that_fit_no_columns(self):
         self.bad(
             BadSieve, "( is cost #5 )", "( is Price #5 )", '( is price "a )', "( is maker #5 )", "( below price - )",
-            "( above maker - )", "( begins maker - )", '( begins price "a )', "( begins maker #5 )", "( begins price #5 )",
+            "( above maker - )", "( begins maker - )", '( begins price "a )', "( begins maker #5 )",
+            "( begins price #5 )",
             "( key A )", "( key 2a )", "( key abcdefghijklm )", "( key a| )", "( key #5 )", "( key - )", "( key a\nb )",
-            "( not ( is cost #5 ) )", "( or ( every ) ( is maker #5 ) )", "( is every #5 )", "( is | #5 )", "( is key - )",
+            "( not ( is cost #5 ) )", "( or ( every ) ( is maker #5 ) )", "( is every #5 )", "( is | #5 )",
+            "( is key - )",
         )
         self.bad(BadSieve, "( is price #5 )", columns=())
 
     def test_not_written_so_goes_ahead_of_what_fits_no_columns(self):
-        self.bad(NoText, "( and ( is cost #5 ) ( is price 5 ) )", "( key A ( every ) )", "( not ( is cost #5 ) ( every ) )")
+        self.bad(NoText, "( and ( is cost #5 ) ( is price 5 ) )", "( key A ( every ) )")
+        self.bad(NoText, "( not ( is cost #5 ) ( every ) )")
 
     def test_what_is_no_text(self):
         self.bad(NoText, *([None, 5, (), EVERY, b"( every )"] + other_things()))
@@ -333,14 +343,16 @@ class ByChanceTest(TextTest):
     WORDS = ("(", ")", "every", "is", "key", "not", "and", "or", "price", "maker", "#5", "-", '"a', "a", "")
 
     def sieve(self, chance, depth):
-        word = chance.choice(("every", "is", "below", "begins", "key", "not", "and", "or") if depth > 1 else ("is", "key"))
+        flat = ("every", "is", "below", "begins", "key")
+        word = chance.choice(flat + ("not", "and", "or") if depth > 1 else flat)
         if word == "not":
             return (word, self.sieve(chance, depth - 1))
         if word in ("and", "or"):
             return (word, tuple(self.sieve(chance, depth - 1) for _ in range(chance.randint(0, 3))))
         return {
             "every": EVERY, "is": ("is", "price", chance.choice((None, 0, -7))), "below": ("below", "maker", " ="),
-            "begins": ("begins", "maker", chance.choice(("", "(", ")"))), "key": ("key", ("a", "b2")[:chance.randint(0, 2)]),
+            "begins": ("begins", "maker", chance.choice(("", "(", ")"))),
+            "key": ("key", ("a", "b2")[:chance.randint(0, 2)]),
         }[word]
 
     def test_what_is_written_is_read_as_the_same(self):
